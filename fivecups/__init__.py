@@ -1,0 +1,1 @@
+"""Fivecups: sayings danced by five cups, and with how few steps three cups can't."""
