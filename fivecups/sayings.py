@@ -1,5 +1,7 @@
 """Sayings: nested tuples that are so, or aren't, by the answers to questions."""
 
+from fivecups.walks import all_within, fold_within
+
 LAYERS_MORE = {"yes": 0, "no": 0, "ask": 0, "not": 0, "and": 1, "or": 1, "either": 2, "most": 3}
 
 
@@ -8,25 +10,11 @@ def inner(saying):
 
 
 def all_parts(saying):
-    # A row of what is still to be walked, and no recursion: sayings may lie within one another
-    # far deeper than calls may.
-    found = []
-    rest = [saying]
-    while rest:
-        part = rest.pop()
-        found.append(part)
-        rest.extend(list(reversed(inner(part))))
-    return found
+    return all_within(saying, inner)
 
 
 def folded(saying, put):
-    # Walked from its end, the row of parts has all that lies in a part ahead of it, the first
-    # of them last: so they are taken off in their order.
-    told = []
-    for part in reversed(all_parts(saying)):
-        inside = [told.pop() for one in inner(part)]
-        told.append(put(part, inside))
-    return told[0]
+    return fold_within(saying, inner, put)
 
 
 def so_by(answers, part, inside):

@@ -76,3 +76,160 @@ def deep_sayings():
 
 def every_saying():
     return low_sayings() + high_sayings() + deep_sayings()
+
+
+def good_steps(cups, questions, many):
+    turnings = turnings_of(cups)
+    return tuple(
+        (k % questions, turnings[k * 5 % len(turnings)], turnings[k * 11 % len(turnings)]) for k in range(many)
+    )
+
+
+def dance_of(cups, questions, many):
+    return (cups, questions, good_steps(cups, questions, many))
+
+
+def walked(dance, answers):
+    """Where the cups stand behind each step: each cup is taken from place to place by itself."""
+    places = list(range(dance[0]))
+    told = [tuple(places)]
+    for q, yes, no in dance[2]:
+        for cup in range(dance[0]):
+            places[cup] = yes[places[cup]] if answers[q] else no[places[cup]]
+        told.append(tuple(places))
+    return told
+
+
+def comes(dance, answers):
+    return walked(dance, answers)[-1]
+
+
+def rings_of_five():
+    """Every ring of five, told by a walk from place 0 through all places."""
+    told = []
+    for turning in turnings_of(5):
+        row = [0]
+        while turning[row[-1]] != 0:
+            row.append(turning[row[-1]])
+        if len(row) == 5:
+            told.append(turning)
+    return told
+
+
+def is_saying(thing):
+    """Of the form, tuples throughout, its questions whole numbers; walked without recursion."""
+    rest = [thing]
+    while rest:
+        part = rest.pop()
+        if not isinstance(part, tuple) or len(part) == 0 or not isinstance(part[0], str):
+            return False
+        if part[0] == "ask":
+            if len(part) != 2 or not is_tuple_of_numbers(part[1:]) or part[1] < 0:
+                return False
+        elif part[0] in INSIDE:
+            if len(part) != 1 + INSIDE[part[0]]:
+                return False
+            rest.extend(part[1:])
+        elif part not in (YES, NO):
+            return False
+    return True
+
+
+def is_dance(thing):
+    """Let by, told by its words alone: the numbers, the steps, the turnings, tuples throughout."""
+    if not isinstance(thing, tuple) or len(thing) != 3 or not is_tuple_of_numbers(thing[:2]):
+        return False
+    cups, questions, steps = thing
+    if cups not in CUPS or not 1 <= questions <= 10 or not isinstance(steps, tuple):
+        return False
+    for step in steps:
+        if not isinstance(step, tuple) or len(step) != 3 or not is_tuple_of_numbers(step[:1]):
+            return False
+        if not 0 <= step[0] < questions:
+            return False
+        if not all(is_tuple_of_numbers(side) and sorted(side) == list(range(cups)) for side in step[1:]):
+            return False
+    return True
+
+
+def is_even(turning):
+    """As many rings, bare places counted too, as the cups but for an even number."""
+    rest = set(range(len(turning)))
+    rounds = 0
+    while rest:
+        place = rest.pop()
+        rounds += 1
+        while turning[place] in rest:
+            place = turning[place]
+            rest.remove(place)
+    return (len(turning) - rounds) % 2 == 0
+
+
+def bad_rings():
+    """Tuples of whole numbers that are no rings of five."""
+    ring = (1, 2, 3, 4, 0)
+    return (
+        (),
+        (0,),
+        ring[:4],
+        (1, 2, 0),
+        (1, 2, 3, 0),
+        ring + (5,),
+        (1, 2, 3, 4, 5, 0),
+        ring + ring,
+        (1, 2, 3, 4, 1),
+        (1, 1, 3, 4, 0),
+        (1, 2, 3, 4, -5),
+        (-4, 2, 3, 4, 0),
+        (-1, -2, -3, -4, -5),
+        (1, 2, 3, 4, 5),
+        (1, 2, 3, 10**20, 0),
+        (0, 1, 2, 3, 4),
+        (1, 0, 3, 4, 2),
+        (2, 0, 1, 4, 3),
+        (1, 0, 2, 3, 4),
+        (1, 2, 3, 0, 4),
+        (1, 0, 3, 2, 4),
+        (1, 2, 0, 3, 4),
+    )
+
+
+def nots(saying, many):
+    for k in range(many):
+        saying = ("not", saying)
+    return saying
+
+
+def with_questions(questions, first=0, word="and"):
+    """Each question once, ands and ors by turns, as flat as can be: of a weight of at most 112."""
+    if questions == 1:
+        return ask(first)
+    half = questions // 2
+    other = "or" if word == "and" else "and"
+    return (word, with_questions(half, first, other), with_questions(questions - half, first + half, other))
+
+
+def heaviest_sayings():
+    """Of a weight of 124: no saying has one of 125 to 128."""
+    ten = ("or", ("and", ask(0), ("not", ask(1))), ask(2))
+    most = ("most", ask(0), ask(1), ask(2))
+    return [
+        ("and", ("or", ask(0), ask(2)), ("and", most, ("not", ask(1)))),
+        ("or", ("either", ask(0), ("not", ask(1))), ("not", ("or", ("and", ten, YES), ask(2)))),
+        ("or", ("and", most, ask(0)), ("not", ("or", ask(1), ask(2)))),
+    ]
+
+
+def light_sayings():
+    """With sayings of every word in sayings of every word, of a weight of at most 128."""
+    every = high_sayings() + deep_sayings() + heaviest_sayings()
+    return [saying for saying in every if weighed(saying) <= 128]
+
+
+def weighed(saying):
+    word, inner = saying[0], saying[1:]
+    if word in ("yes", "no", "ask"):
+        return 1
+    weights = [weighed(part) for part in inner]
+    times = {"not": (1,), "and": (2, 2), "or": (2, 2), "either": (8, 8), "most": (12, 12, 4)}
+    return sum(one * many for one, many in zip(weights, times[word]))

@@ -2,14 +2,7 @@ import unittest
 
 from fivecups.dances import look
 from fivecups.errors import NoDance
-from tests.samples import CUPS, turnings_of
-
-
-def good_steps(cups, questions, many):
-    turnings = turnings_of(cups)
-    return tuple(
-        (k % questions, turnings[k * 5 % len(turnings)], turnings[k * 11 % len(turnings)]) for k in range(many)
-    )
+from tests.samples import CUPS, good_steps, turnings_of
 
 
 def bad_turnings(cups):
