@@ -79,10 +79,10 @@ def every_saying():
 
 
 def good_steps(cups, questions, many):
+    """All questions round and round, unlike turnings on both sides, no step still on both."""
     turnings = turnings_of(cups)
-    return tuple(
-        (k % questions, turnings[k * 5 % len(turnings)], turnings[k * 11 % len(turnings)]) for k in range(many)
-    )
+    count = len(turnings)
+    return tuple((k % questions, turnings[(k * 5 + 1) % count], turnings[(k * 7 + 3) % count]) for k in range(many))
 
 
 def dance_of(cups, questions, many):

@@ -160,11 +160,12 @@ class NamesTest(unittest.TestCase):
             drawn = {file: drawn[file] for file in drawn if file not in free}
 
     def test_every_name_is_plain(self):
-        for name in bound_names() + own_attributes():
+        bound = bound_names()
+        for name in bound + own_attributes():
             if name not in TWO_UNDERSCORES:
                 self.assertRegex(name, r"\A[A-Za-z][A-Za-z0-9_]*\Z")
                 self.assertNotIn(name, NAMES)
-                self.assertFalse(name in bound_names() and hasattr(builtins, name), name)
+                self.assertFalse(name in bound and hasattr(builtins, name), name)
 
     def test_names_of_pythons_own(self):
         bound = set(bound_names())
