@@ -1,6 +1,7 @@
 """What several tests draw on."""
 
-from itertools import permutations, product
+import random
+from itertools import combinations, permutations, product
 
 CUPS = (3, 4, 5)
 INSIDE = {"not": 1, "and": 2, "or": 2, "either": 2, "most": 3}
@@ -233,3 +234,108 @@ def weighed(saying):
     weights = [weighed(part) for part in inner]
     times = {"not": (1,), "and": (2, 2), "or": (2, 2), "either": (8, 8), "most": (12, 12, 4)}
     return sum(one * many for one, many in zip(weights, times[word]))
+
+
+def one_then(one, other):
+    return tuple(other[one[cup]] for cup in range(len(one)))
+
+
+def backwards(turning):
+    told = [0] * len(turning)
+    for cup, place in enumerate(turning):
+        told[place] = cup
+    return tuple(told)
+
+
+def closed(cups, some):
+    """The group, walked as a set: what is found is done by each of the some till nothing comes anew."""
+    found = {tuple(range(cups))}
+    while True:
+        more = found | {one_then(turning, one) for turning in found for one in some}
+        if more == found:
+            return found
+        found = more
+
+
+def some_turnings():
+    """None to four turnings of as many cups, alike and still ones among them: (cups, some)."""
+    chance = random.Random(26)
+    told = []
+    for cups in CUPS:
+        turnings = turnings_of(cups)
+        stays, ring, swap = turnings[0], tuple(range(1, cups)) + (0,), (1, 0) + tuple(range(2, cups))
+        told += [(cups, some) for some in ((), (stays,), (stays, stays), (stays, ring, stays), (swap, ring, swap))]
+        told += [(cups, (ring, swap)), (cups, (ring, ring, ring, ring)), (cups, (ring, backwards(ring)))]
+        told += [(cups, (turning,)) for turning in turnings]
+        for many in (2, 3, 4):
+            told += [(cups, tuple(chance.choice(turnings) for k in range(many))) for again in range(12)]
+            even = [turning for turning in turnings if is_even(turning)]
+            told += [(cups, tuple(chance.choice(even) for k in range(many))) for again in range(6)]
+    return told
+
+
+def there_and_back(a, b):
+    """Cup by cup: a, then b, then a backwards, then b backwards."""
+    return tuple(b.index(a.index(b[place])) for place in a)
+
+
+def there_backs_of(turnings):
+    return {there_and_back(a, b) for a, b in product(turnings, repeat=2)}
+
+
+def is_group(thing):
+    """A rising tuple of turnings, each once."""
+    turnings = isinstance(thing, tuple) and all(is_tuple_of_numbers(one) for one in thing)
+    return turnings and thing == tuple(sorted(set(thing)))
+
+
+def chance_dance(chance, cups, questions, many):
+    turnings = turnings_of(cups)
+    steps = [(chance.randrange(questions), chance.choice(turnings), chance.choice(turnings)) for k in range(many)]
+    return (cups, questions, tuple(steps))
+
+
+def all_sets(questions):
+    return sorted(picked for many in range(questions + 1) for picked in combinations(range(questions), many))
+
+
+def chance_sums(chance, questions, marks):
+    """Sums of so many marks, or of all sets where there are fewer."""
+    sets = all_sets(questions)
+    picked = sorted(chance.sample(sets, min(marks, len(sets))))
+    return (chance.randrange(2), chance.choice(sets), tuple((one, chance.choice((1, 2))) for one in picked))
+
+
+def is_set(thing):
+    return is_tuple_of_numbers(thing) and list(thing) == sorted(set(thing))
+
+
+def is_sums(thing):
+    """Of the form of point 30, tuples throughout."""
+    if not isinstance(thing, tuple) or len(thing) != 3 or not is_tuple_of_numbers(thing[:1]):
+        return False
+    begin, flips, marks = thing
+    if begin not in (0, 1) or not is_set(flips) or not isinstance(marks, tuple) or list(marks) != sorted(marks):
+        return False
+    for mark in marks:
+        if not isinstance(mark, tuple) or len(mark) != 2 or not is_set(mark[0]):
+            return False
+        if not is_tuple_of_numbers(mark[1:]) or mark[1] not in (1, 2):
+            return False
+    return len({mark[0] for mark in marks}) == len(marks)
+
+
+def reckoned(sums, answers):
+    """Point 30 word by word, each cup by itself."""
+    begin, flips, marks = sums
+
+    def sign(some):
+        return 1 if len([q for q in some if answers[q] == 1]) in range(0, 11, 2) else 2
+
+    e = sign(flips)
+    if begin == 1:
+        e = {1: 2, 2: 1}[e]
+    c = 0
+    for some, number in marks:
+        c = (c + number * sign(some)) % 3
+    return tuple((c + e * x) % 3 for x in range(3))

@@ -3,20 +3,9 @@ from itertools import product
 
 from fivecups.changed import answered, asked_anew, behind, turned_about, turned_back
 from fivecups.errors import CupError, OtherSizes
-from tests.samples import CUPS, answers_of, comes, dance_of, is_dance, turnings_of
+from tests.samples import CUPS, answers_of, backwards, comes, dance_of, is_dance, one_then, turnings_of
 
 MANY = (0, 1, 2, 3, 24, 200)
-
-
-def one_then(one, other):
-    return tuple(other[one[cup]] for cup in range(len(one)))
-
-
-def backwards(turning):
-    told = [0] * len(turning)
-    for cup, place in enumerate(turning):
-        told[place] = cup
-    return tuple(told)
 
 
 def some_dances(cups, questions):

@@ -22,17 +22,13 @@ from tests.samples import (
     low_sayings,
     nots,
     rings_of_five,
+    there_and_back,
     turnings_of,
     with_questions,
 )
 
 STILL = (0, 1, 2, 3, 4)
 RING = (1, 2, 3, 4, 0)
-
-
-def there_and_back(a, b):
-    """Cup by cup: a, then b, then a backwards, then b backwards."""
-    return tuple(b.index(a.index(b[a[cup]])) for cup in range(5))
 
 
 class ApartTest(unittest.TestCase):

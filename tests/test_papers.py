@@ -13,6 +13,7 @@ from tests.samples import (
     YES,
     answers_of,
     ask,
+    backwards,
     bad_rings,
     comes,
     every_saying,
@@ -23,7 +24,9 @@ from tests.samples import (
     light_sayings,
     low_sayings,
     nots,
+    one_then,
     rings_of_five,
+    there_and_back,
     turnings_of,
     with_questions,
 )
@@ -33,18 +36,6 @@ RING = (1, 2, 3, 4, 0)
 OTHER_RING = (2, 0, 4, 1, 3)
 STEP = ("step",)
 RINGS = rings_of_five()
-
-
-def one_then(one, other):
-    return tuple(other[place] for place in one)
-
-
-def backwards(turning):
-    return tuple(turning.index(place) for place in range(5))
-
-
-def there_and_back(a, b):
-    return one_then(one_then(one_then(a, b), backwards(a)), backwards(b))
 
 
 def pairs_by_ring():
