@@ -5,12 +5,12 @@ from fivecups.errors import BadText
 FIGURES = "01234"
 
 
-def show_turning(turning):
-    return "".join([str(place) for place in turning])
+def in_a_row(numbers):
+    return "".join([str(number) for number in numbers])
 
 
 def show_step(step):
-    return " ".join([str(step[0]), show_turning(step[1]), show_turning(step[2])])
+    return " ".join([str(step[0]), in_a_row(step[1]), in_a_row(step[2])])
 
 
 def show_dance(dance):
@@ -27,10 +27,18 @@ def read_number(word, least, beyond, row):
     return int(word)
 
 
-def read_turning(word, cups, row):
-    if sorted(word) != list(FIGURES[:cups]):
-        raise BadText(row)
+def from_a_row(word):
     return tuple([int(figure) for figure in word])
+
+
+def is_turning_in_a_row(word, cups):
+    return sorted(word) == list(FIGURES[:cups])
+
+
+def read_turning(word, cups, row):
+    if not is_turning_in_a_row(word, cups):
+        raise BadText(row)
+    return from_a_row(word)
 
 
 def read_head(text):

@@ -86,7 +86,7 @@ def good_steps(cups, questions, many):
     return tuple((k % questions, turnings[(k * 5 + 1) % count], turnings[(k * 7 + 3) % count]) for k in range(many))
 
 
-def dance_of(cups, questions, many):
+def plain_dance(cups, questions, many):
     return (cups, questions, good_steps(cups, questions, many))
 
 
@@ -339,3 +339,49 @@ def reckoned(sums, answers):
     for some, number in marks:
         c = (c + number * sign(some)) % 3
     return tuple((c + e * x) % 3 for x in range(3))
+
+
+def is_whole(thing):
+    return is_tuple_of_numbers((thing,))
+
+
+def all_of(sayings):
+    told = sayings[0]
+    for saying in sayings[1:]:
+        told = ("and", told, saying)
+    return told
+
+
+def depth(saying):
+    return 1 + max([depth(one) for one in saying[1:] if isinstance(one, tuple)], default=0)
+
+
+def saying_of_parts(chance, questions, parts):
+    words = [word for word in INSIDE if INSIDE[word] < parts]
+    if not words:
+        return chance.choice((YES, NO) + tuple(ask(chance.randrange(questions)) for k in range(8)))
+    word = chance.choice(words)
+    rest = parts - 1
+    inner = []
+    for left in range(INSIDE[word] - 1, 0, -1):
+        inner.append(chance.randint(1, rest - left))
+        rest -= inner[-1]
+    return (word,) + tuple(saying_of_parts(chance, questions, share) for share in inner + [rest])
+
+
+def chance_saying(chance, questions, parts):
+    """Of just so many parts, any words, at most six of them within one another."""
+    told = saying_of_parts(chance, questions, parts)
+    while depth(told) > 6:
+        told = saying_of_parts(chance, questions, parts)
+    return told
+
+
+def so_by_words(saying, answers):
+    word = saying[0]
+    if word == "ask":
+        return answers[saying[1]] == 1
+    so = [so_by_words(one, answers) for one in saying[1:]]
+    least = {"yes": 0, "no": 1, "not": 0, "and": 2, "or": 1, "either": 1, "most": 2}[word]
+    most = {"not": 0, "either": 1}.get(word, 3)
+    return least <= sum(so) <= most

@@ -3,15 +3,15 @@ from itertools import product
 
 from fivecups.changed import answered, asked_anew, behind, turned_about, turned_back
 from fivecups.errors import CupError, OtherSizes
-from tests.samples import CUPS, answers_of, backwards, comes, dance_of, is_dance, one_then, turnings_of
+from tests.samples import CUPS, answers_of, backwards, comes, is_dance, one_then, plain_dance, turnings_of
 
 MANY = (0, 1, 2, 3, 24, 200)
 
 
 def some_dances(cups, questions):
     """Of several sizes, begun at another step each."""
-    dances = [dance_of(cups, questions, many) for many in MANY]
-    return dances + [(cups, questions, dance_of(cups, questions, 24)[2][at:]) for at in (5, 16, 22)]
+    dances = [plain_dance(cups, questions, many) for many in MANY]
+    return dances + [(cups, questions, plain_dance(cups, questions, 24)[2][at:]) for at in (5, 16, 22)]
 
 
 class ChangedTest(unittest.TestCase):
@@ -38,7 +38,7 @@ class BehindTest(ChangedTest):
 
     def test_without_steps(self):
         for cups in CUPS:
-            dance, bare = dance_of(cups, 10, 24), (cups, 10, ())
+            dance, bare = plain_dance(cups, 10, 24), (cups, 10, ())
             self.assertEqual(behind(dance, bare), dance)
             self.assertEqual(behind(bare, dance), dance)
             self.assertEqual(behind(bare, bare), bare)
@@ -47,7 +47,7 @@ class BehindTest(ChangedTest):
         for cups, other in product(CUPS, repeat=2):
             for questions, others in product((1, 2, 9, 10), repeat=2):
                 for many in (0, 3):
-                    dances = (dance_of(cups, questions, 3), dance_of(other, others, many))
+                    dances = (plain_dance(cups, questions, 3), plain_dance(other, others, many))
                     if (cups, questions) == (other, others):
                         self.assertEqual(len(behind(*dances)[2]), 3 + many)
                     else:
@@ -77,7 +77,7 @@ class TurnedAboutTest(ChangedTest):
     def test_against_the_doing_by_every_turning(self):
         for cups in CUPS:
             for questions in (1, 2):
-                for dance in (dance_of(cups, questions, many) for many in (0, 1, 7)):
+                for dance in (plain_dance(cups, questions, many) for many in (0, 1, 7)):
                     for by in turnings_of(cups):
                         told = turned_about(dance, by)
                         self.assert_told(told, cups, questions)
@@ -88,7 +88,7 @@ class TurnedAboutTest(ChangedTest):
 
     def test_many_steps(self):
         for cups in CUPS:
-            dance = dance_of(cups, 3, 200)
+            dance = plain_dance(cups, 3, 200)
             by = turnings_of(cups)[3]
             for answers in answers_of(3):
                 about = one_then(one_then(backwards(by), comes(dance, answers)), by)
@@ -106,7 +106,7 @@ class TurnedAboutTest(ChangedTest):
             if cups != other:
                 for by in turnings_of(other):
                     for many in (0, 1, 3):
-                        self.assert_other_sizes(turned_about, dance_of(cups, 2, many), by)
+                        self.assert_other_sizes(turned_about, plain_dance(cups, 2, many), by)
 
 
 class AskedAnewTest(ChangedTest):
@@ -124,18 +124,18 @@ class AskedAnewTest(ChangedTest):
                 for others in (1, 2, 3):
                     for row in product(range(others), repeat=questions):
                         for many in (0, 1, 7):
-                            self.assert_anew(dance_of(cups, questions, many), row, others)
+                            self.assert_anew(plain_dance(cups, questions, many), row, others)
 
     def test_many_questions(self):
         for cups in CUPS:
             for many in (0, 1, 24, 200):
-                dance = dance_of(cups, 10, many)
+                dance = plain_dance(cups, 10, many)
                 self.assert_anew(dance, (0,) * 10, 1)
                 self.assert_anew(dance, (9,) * 10, 10)
                 self.assert_anew(dance, tuple(range(9, -1, -1)), 10)
                 self.assert_anew(dance, tuple(range(10)), 10)
                 self.assert_anew(dance, (1, 0, 3, 2, 4, 0, 1, 3, 2, 4), 5)
-                self.assert_anew(dance_of(cups, 1, many), (7,), 10)
+                self.assert_anew(plain_dance(cups, 1, many), (7,), 10)
 
     def test_step_by_step(self):
         dance = (3, 2, ((0, (1, 2, 0), (0, 2, 1)), (1, (2, 0, 1), (0, 1, 2))))
@@ -157,7 +157,7 @@ class AnsweredTest(ChangedTest):
 
     def test_steps_one_by_one(self):
         for cups in CUPS:
-            dance = dance_of(cups, 10, 200)
+            dance = plain_dance(cups, 10, 200)
             for q, answer in product(range(10), (0, 1)):
                 for step, told in zip(dance[2], answered(dance, q, answer)[2], strict=True):
                     side = step[1] if answer else step[2]
@@ -171,7 +171,7 @@ class AnsweredTest(ChangedTest):
 class StaysTest(unittest.TestCase):
     def test_what_is_handed_in_stays(self):
         for cups in CUPS:
-            dance, same = dance_of(cups, 3, 24), dance_of(cups, 3, 24)
+            dance, same = plain_dance(cups, 3, 24), plain_dance(cups, 3, 24)
             by = turnings_of(cups)[4]
             behind(dance, dance)
             turned_back(dance)

@@ -3,7 +3,7 @@ import unittest
 
 from fivecups.changed import behind, turned_back
 from fivecups.cutting import cut
-from tests.samples import CUPS, answers_of, comes, dance_of, is_dance, turnings_of
+from tests.samples import CUPS, answers_of, comes, is_dance, plain_dance, turnings_of
 
 STILL = (0, 1, 2)
 RING = (1, 2, 0)
@@ -83,7 +83,7 @@ class CutTest(unittest.TestCase):
     def test_nothing_to_cut_stays(self):
         for cups in CUPS:
             for many in (0, 1, 2, 24, 200):
-                dance = dance_of(cups, 10, many)
+                dance = plain_dance(cups, 10, many)
                 self.assertEqual(places_to_cut(dance[2]), [])
                 self.assertEqual(cut(dance), dance)
 
@@ -91,7 +91,7 @@ class CutTest(unittest.TestCase):
         for cups in CUPS:
             for questions in (1, 2, 3, 10):
                 for many in (0, 1, 2, 24, 100):
-                    dance = dance_of(cups, questions, many)
+                    dance = plain_dance(cups, questions, many)
                     self.assertEqual(cut(behind(dance, turned_back(dance))), (cups, questions, ()))
                     self.assertEqual(cut(behind(turned_back(dance), dance)), (cups, questions, ()))
 
@@ -107,7 +107,7 @@ class CutTest(unittest.TestCase):
         self.assertGreater(shorter, 200)
 
     def test_against_the_doing(self):
-        for dance in dances_to_cut() + [dance_of(cups, questions, 200) for cups in CUPS for questions in (1, 2, 3)]:
+        for dance in dances_to_cut() + [plain_dance(cups, questions, 200) for cups in CUPS for questions in (1, 2, 3)]:
             told = cut(dance)
             self.assertTrue(is_dance(told), told)
             self.assertEqual(told[:2], dance[:2])
@@ -117,7 +117,7 @@ class CutTest(unittest.TestCase):
     def test_one_question_becomes_one_step_at_most(self):
         for cups in CUPS:
             for many in (1, 2, 24, 200):
-                self.assertLessEqual(len(cut(dance_of(cups, 1, many))[2]), 1)
+                self.assertLessEqual(len(cut(plain_dance(cups, 1, many))[2]), 1)
 
     def test_what_is_handed_in_stays(self):
         steps = ((0, RING, STILL), (0, OTHER, STILL), (1, STILL, STILL))

@@ -2,7 +2,7 @@ import unittest
 
 from fivecups.dancetexts import read_dance, show_dance
 from fivecups.errors import BadText
-from tests.samples import CUPS, dance_of, is_dance, turnings_of
+from tests.samples import CUPS, is_dance, plain_dance, turnings_of
 
 MANY = (0, 1, 2, 3, 24, 200)
 GOOD = "cups 3 questions 2\n0 120 012\n1 012 201"
@@ -34,7 +34,7 @@ class ShowTest(unittest.TestCase):
         for cups in CUPS:
             for questions in range(1, 11):
                 for many in MANY:
-                    dance = dance_of(cups, questions, many)
+                    dance = plain_dance(cups, questions, many)
                     self.assertEqual(show_dance(dance), plain_text(dance))
 
 
@@ -50,7 +50,7 @@ class ThereAndBackTest(unittest.TestCase):
         for cups in CUPS:
             for questions in range(1, 11):
                 for many in MANY:
-                    self.assert_there_and_back(dance_of(cups, questions, many))
+                    self.assert_there_and_back(plain_dance(cups, questions, many))
 
     def test_every_turning_on_both_sides(self):
         for cups in CUPS:
@@ -63,7 +63,7 @@ class ThereAndBackTest(unittest.TestCase):
                 self.assert_there_and_back((3, questions, ((q, (1, 2, 0), (0, 1, 2)),)))
 
     def test_unlike_dances_have_unlike_texts(self):
-        dances = [dance_of(cups, questions, many) for cups in CUPS for questions in range(1, 11) for many in MANY]
+        dances = [plain_dance(cups, questions, many) for cups in CUPS for questions in range(1, 11) for many in MANY]
         self.assertEqual(len({show_dance(dance) for dance in dances}), len(dances))
 
 
@@ -182,7 +182,7 @@ class RefusedTest(unittest.TestCase):
         self.assert_refused("cups 3 questions 2\n", 1)
         self.assert_refused(GOOD + "\n", 3)
         self.assert_refused(GOOD + "\n\n", 3)
-        self.assert_refused(show_dance(dance_of(5, 10, 200)) + "\n", 201)
+        self.assert_refused(show_dance(plain_dance(5, 10, 200)) + "\n", 201)
 
     def test_words_of_a_step(self):
         for step in ("0", "0 120", "120 012", "0 120 012 012", "0 120012", "0120 012", "0 0 120 012", "0 120 012 0"):
@@ -222,7 +222,7 @@ class RefusedTest(unittest.TestCase):
         self.assert_refused("cups 2 questions 0\n9 9 9", 0)
         self.assert_refused("cups 3 questions 2\n2 120 012\n0 12 012\n", 1)
         self.assert_refused("cups 3 questions 2\n0 120 012\n0 12 012\n\n2 120 012", 2)
-        rows = show_dance(dance_of(5, 10, 200)).split("\n")
+        rows = show_dance(plain_dance(5, 10, 200)).split("\n")
         for row in (1, 2, 100, 200):
             bad = rows[:row] + ["10 12340 01234"] + rows[row + 1 :]
             self.assert_refused("\n".join(bad), row)

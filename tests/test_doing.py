@@ -1,7 +1,7 @@
 import unittest
 
 from fivecups.doing import all_answers, done, done_by_steps, table
-from tests.samples import CUPS, answers_of, dance_of, is_tuple_of_numbers, turnings_of, walked
+from tests.samples import CUPS, answers_of, is_tuple_of_numbers, plain_dance, turnings_of, walked
 
 
 def some_answers(questions):
@@ -50,17 +50,17 @@ class DoneTest(unittest.TestCase):
             for questions in (1, 2, 3, 7, 10):
                 for many in (2, 3, 24, 200):
                     for answers in some_answers(questions):
-                        self.assert_done(dance_of(cups, questions, many), answers)
+                        self.assert_done(plain_dance(cups, questions, many), answers)
 
     def test_each_list_is_the_askers_own(self):
         for many in (0, 1, 24):
-            dance = dance_of(5, 3, many)
+            dance = plain_dance(5, 3, many)
             first = done_by_steps(dance, (0, 1, 1))
             kept = list(first)
             first.append("more")
             first.clear()
             self.assertEqual(done_by_steps(dance, (0, 1, 1)), kept)
-            self.assertEqual(dance, dance_of(5, 3, many))
+            self.assertEqual(dance, plain_dance(5, 3, many))
 
 
 class AnswersTest(unittest.TestCase):
@@ -90,7 +90,7 @@ class TableTest(unittest.TestCase):
         for cups in CUPS:
             for questions in range(1, 7):
                 for many in (0, 1, 2, 24, 200):
-                    dance = dance_of(cups, questions, many)
+                    dance = plain_dance(cups, questions, many)
                     told = table(dance)
                     self.assertIsInstance(told, tuple)
                     self.assertTrue(all(is_tuple_of_numbers(turning) for turning in told))

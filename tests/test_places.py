@@ -4,7 +4,7 @@ import unittest
 from fivecups.making import made
 from fivecups.places import comes_to, halvings
 from fivecups.sayings import is_so, layers, weight
-from tests.samples import CUPS, NO, YES, answers_of, comes, dance_of, is_saying, turnings_of
+from tests.samples import CUPS, NO, YES, answers_of, comes, is_saying, plain_dance, turnings_of
 
 LAYERS = {3: 3, 4: 3, 5: 4}
 MOST_STEPS = {3: 8, 4: 4, 5: 4}
@@ -32,7 +32,7 @@ def some_dances(cups):
     told = []
     for many in range(MOST_STEPS[cups] + 1):
         for questions in (1, 2, 3):
-            told.append(dance_of(cups, questions, many))
+            told.append(plain_dance(cups, questions, many))
             steps = [
                 (chance.randrange(questions), chance.choice(turnings), chance.choice(turnings)) for k in range(many)
             ]
@@ -45,13 +45,13 @@ class HalvingsTest(unittest.TestCase):
         known = {0: 0, 1: 0, 2: 1, 3: 2, 4: 2, 5: 3, 8: 3, 9: 4, 16: 4, 17: 5, 200: 8}
         for cups in CUPS:
             for many in known:
-                told = halvings(dance_of(cups, 2, many))
+                told = halvings(plain_dance(cups, 2, many))
                 self.assertEqual(told, known[many], many)
                 self.assertIs(told.__class__, int)
 
     def test_every_number_of_steps(self):
         for many in range(201):
-            self.assertEqual(halvings(dance_of(3, 2, many)), halved(many))
+            self.assertEqual(halvings(plain_dance(3, 2, many)), halved(many))
 
 
 class ComesToTest(unittest.TestCase):
@@ -86,8 +86,8 @@ class ComesToTest(unittest.TestCase):
 
     def test_many_questions(self):
         for cups in CUPS:
-            self.assert_comes_to(dance_of(cups, MOST_STEPS[cups], MOST_STEPS[cups]))
-            steps = dance_of(cups, 10, 14)[2]
+            self.assert_comes_to(plain_dance(cups, MOST_STEPS[cups], MOST_STEPS[cups]))
+            steps = plain_dance(cups, 10, 14)[2]
             self.assert_comes_to((cups, 10, steps[10 - MOST_STEPS[cups] + 2 :][: MOST_STEPS[cups]]))
 
     def test_places_to_which_nothing_leads(self):
@@ -99,7 +99,7 @@ class ComesToTest(unittest.TestCase):
 
     def test_what_is_told_may_be_made(self):
         ring = (1, 2, 3, 4, 0)
-        dance = dance_of(3, 2, 2)
+        dance = plain_dance(3, 2, 2)
         for i in range(3):
             for j in range(3):
                 saying = comes_to(dance, i, j)
@@ -109,10 +109,10 @@ class ComesToTest(unittest.TestCase):
                     self.assertEqual(so, comes(dance, answers)[i] == j)
 
     def test_what_is_handed_in_stays(self):
-        dance = dance_of(5, 2, 4)
+        dance = plain_dance(5, 2, 4)
         comes_to(dance, 0, 4)
         halvings(dance)
-        self.assertEqual(dance, dance_of(5, 2, 4))
+        self.assertEqual(dance, plain_dance(5, 2, 4))
 
 
 if __name__ == "__main__":

@@ -1,19 +1,9 @@
 import unittest
 
 from fivecups.sayings import is_so, layers, parts, questions_in, weight
-from tests.samples import NO, YES, answers_of, ask, every_saying, widest_saying, within
+from tests.samples import NO, YES, answers_of, ask, every_saying, so_by_words, widest_saying, within
 
 Q0, Q1, Q2 = ask(0), ask(1), ask(2)
-
-
-def so_by_words(saying, answers):
-    word = saying[0]
-    if word == "ask":
-        return answers[saying[1]] == 1
-    so = [so_by_words(one, answers) for one in saying[1:]]
-    least = {"yes": 0, "no": 1, "not": 0, "and": 2, "or": 1, "either": 1, "most": 2}[word]
-    most = {"not": 0, "either": 1}.get(word, 3)
-    return least <= sum(so) <= most
 
 
 def reckoned(saying):

@@ -13,10 +13,10 @@ from tests.samples import (
     chance_dance,
     chance_sums,
     comes,
-    dance_of,
     is_sums,
     is_tuple_of_numbers,
     one_then,
+    plain_dance,
     reckoned,
     turnings_of,
 )
@@ -66,23 +66,13 @@ class SumsOfTest(unittest.TestCase):
         for questions in range(1, 11):
             for many in (0, 1, 2, 3, 24):
                 self.assert_sums(chance_dance(chance, 3, questions, many))
-                self.assert_sums(dance_of(3, questions, many))
+                self.assert_sums(plain_dance(3, questions, many))
 
     def test_two_hundred_steps(self):
         chance = random.Random(200)
-        for questions in (1, 2, 3, 4, 5, 6, 7):
+        for questions in range(1, 11):
             self.assert_sums(chance_dance(chance, 3, questions, 200))
-            self.assert_sums(dance_of(3, questions, 200))
-
-    def test_two_hundred_steps_of_many_questions(self):
-        chance = random.Random(10)
-        for questions in (8, 9, 10):
-            dance = chance_dance(chance, 3, questions, 200)
-            told = sums_of(dance)
-            self.assertTrue(is_sums(told), told)
-            self.assertLessEqual(len(told[2]), 400)
-            for answers in answers_of(questions)[::7]:
-                self.assertEqual(reckoned(told, answers), comes(dance, answers))
+            self.assert_sums(plain_dance(3, questions, 200))
 
     def test_written_out(self):
         self.assertEqual(sums_of((3, 1, ((0, RING, STILL),))), (0, (), (((), 2), ((0,), 1))))
@@ -149,9 +139,9 @@ class SumsOfTest(unittest.TestCase):
             self.assertGreater(len(by_sums), 30)
 
     def test_what_is_handed_in_stays(self):
-        dance = dance_of(3, 4, 24)
+        dance = plain_dance(3, 4, 24)
         sums_of(dance)
-        self.assertEqual(dance, dance_of(3, 4, 24))
+        self.assertEqual(dance, plain_dance(3, 4, 24))
 
 
 class ComeTest(unittest.TestCase):
@@ -207,11 +197,12 @@ class ComeTest(unittest.TestCase):
 
     def test_of_the_sums_of_dances(self):
         chance = random.Random(24)
-        for questions in (1, 2, 5):
+        for questions in (1, 2, 5, 10):
             for many in (0, 1, 2, 24, 200):
                 dance = chance_dance(chance, 3, questions, many)
+                sums = sums_of(dance)
                 for answers in answers_of(questions):
-                    self.assertEqual(come(sums_of(dance), answers), done(dance, answers))
+                    self.assertEqual(come(sums, answers), done(dance, answers))
 
     def test_what_is_handed_in_stays(self):
         sums, answers = (1, (0, 2), (((), 2), ((0,), 1), ((1, 2), 2))), (1, 0, 1)
